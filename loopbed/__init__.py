@@ -1,0 +1,1 @@
+"""Loopbed: patterns of stitches, and a bed of hooks that knits them."""
