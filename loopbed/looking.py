@@ -1,5 +1,6 @@
 """Whether a pattern is good, or which row of it has which fault."""
 
+from loopbed.errors import Unfit
 from loopbed.stitches import places_taken, steps_of
 
 MOST_WIDE = 16
@@ -18,6 +19,11 @@ def looked(pattern):
         counts = counts_behind(stitches, counts)
         widths.append(len(counts))
     return ("good", widths)
+
+
+def need_good(pattern):
+    if looked(pattern)[0] != "good":
+        raise Unfit("the pattern has a row with a fault")
 
 
 def fault_of(stitches, counts):

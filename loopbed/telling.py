@@ -1,13 +1,11 @@
 """The cloth that a good pattern tells, and its live places."""
 
-from loopbed.errors import Unfit
-from loopbed.looking import looked
+from loopbed.looking import need_good
 from loopbed.stitches import steps_of
 
 
 def told(pattern):
-    if looked(pattern)[0] != "good":
-        raise Unfit("the pattern has a row with a fault")
+    need_good(pattern)
     cast = pattern[0]
     cloth = [(cast[2], "t", ()) for number in range(cast[1])]
     places = [[number] for number in range(cast[1])]

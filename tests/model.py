@@ -129,3 +129,120 @@ def lists_in(value):
     for part in value:
         found += lists_in(part)
     return found
+
+
+class ModelBed:
+    """A bed without hooks: all hanging loops in one list, each with its row and hook, and a ripping is all done anew."""
+
+    def __init__(self):
+        self.deeds = []
+        self.anew()
+
+    def anew(self):
+        self.hanging = []
+        self.loops = []
+
+    def on(self, row, hook):
+        return [loop for r, h, loop in self.hanging if r == row and h == hook]
+
+    def refusal(self, deed):
+        """The name of the class that the deed is refused with, None where it is done."""
+        kind, row, hook, last = deed
+        here = len(self.on(row, hook))
+        if kind == "knit":
+            return "Empty" if here == 0 else None
+        if kind == "tuck":
+            return "Overfull" if here == 4 else None
+        if last - hook not in (-2, -1, 0, 1, 2):
+            return "TooFar"
+        if here == 0:
+            return "Empty"
+        return "Overfull" if here + len(self.on("bf"[row == "b"], last)) > 4 else None
+
+    def act(self, deed):
+        kind, row, hook, last = deed
+        here = self.on(row, hook)
+        self.deeds.append(deed)
+        if kind == "move":
+            self.hanging = [one for one in self.hanging if one[2] not in here]
+            self.hanging += [({"f": "b", "b": "f"}[row], last, loop) for loop in here]
+            return None
+        number = len(self.loops)
+        if kind == "knit":
+            self.hanging = [one for one in self.hanging if one[2] not in here]
+            self.loops.append((last, "k" if row == "f" else "p", tuple(here)))
+        else:
+            self.loops.append((last, "t", ()))
+        self.hanging.append((row, hook, number))
+        return number
+
+    def rip(self):
+        kept = self.deeds[:-1]
+        last = self.deeds[-1]
+        self.deeds = []
+        self.anew()
+        for deed in kept:
+            self.act(deed)
+        return last
+
+    def state(self):
+        return state_of(self.on, self.loops, self.deeds)
+
+
+def state_of(hook, cloth, done):
+    """All that can be asked of a bed, with some numbers beyond its ends."""
+    return {(row, at): hook(row, at) for row in "fb" for at in range(-4, 20)}, list(cloth), list(done)
+
+
+def bed_state(bed):
+    return state_of(bed.hook, bed.cloth(), bed.done())
+
+
+def drawn_deed(rng, hooks):
+    row = rng.choice("fb")
+    hook = rng.choice(hooks)
+    kind = rng.choice(("knit", "tuck", "tuck", "move", "move"))
+    if kind == "move":
+        return (kind, row, hook, rng.choice([max(0, min(15, hook + rng.randrange(-3, 4)))] * 3 + [rng.choice(hooks)]))
+    return (kind, row, hook, rng.choice(YARNS))
+
+
+def drawn_hooks(rng):
+    """Few neighbouring hooks, so that deeds meet."""
+    start = rng.choice((0, 0, 13, 13, rng.randrange(0, 14)))
+    return list(range(start, start + rng.randrange(1, 4)))
+
+
+def wide_patterns(seed, many):
+    """Good patterns of up to 16 places whose rows grow and shrink by much."""
+    rng = random.Random(seed)
+    found = []
+    for nth in range(many):
+        pattern = [("cast", rng.choice((1, 2, 15, 16, 16)), rng.choice(YARNS))]
+        for _ in range(1 + nth % 12):
+            live = modelled(pattern)[1][1]
+            pattern.append(("row", rng.choice(YARNS), wide_row(rng, live)))
+        found.append(pattern)
+    return found
+
+
+def wide_row(rng, live):
+    """One row that draws together and lets out, the rest of its stitches such as keep a place."""
+    stitches = []
+    at = 0
+    eager = rng.randrange(4)
+    while at < len(live):
+        pair = live[at:at + 2]
+        if rng.randrange(4) < eager and len(pair) == 2 and len(pair[0]) + len(pair[1]) <= 4:
+            stitches.append(rng.choice("lr"))
+            at += 2
+        else:
+            stitches.append(rng.choice("kpst" if len(live[at]) < 4 else "kps"))
+            at += 1
+    room = rng.choice((0, 16 - len(stitches), rng.randrange(17 - len(stitches))))
+    spot = rng.randrange(len(stitches) + 1)
+    for _ in range(room):
+        if rng.randrange(4) == 0:
+            spot = rng.randrange(len(stitches) + 1)
+        stitches.insert(spot, "o")
+    return "".join(stitches)

@@ -25,6 +25,13 @@ copyright credits delattr dir eval exec exit gc getattr globals hasattr help id 
 quit setattr super type vars sys""".split()
 UNUSED_WORDS = r"""\b(type|typing|typing_extensions|enum|Enum|IntEnum|StrEnum|Flag|IntFlag|Generic|Protocol|ABC|ABCMeta|
 namedtuple|NamedTuple|TypedDict|TYPE_CHECKING|abstractmethod)\b|dataclass|overload|contextmanager""".replace("\n", "")
+CHANGES = "append clear extend insert pop remove reverse setdefault update".split()
+WALKED = "zip enumerate reversed range items keys values".split()
+WALKERS = "list tuple dict sorted sum any all enumerate zip min max join".split()
+KEYWORDS = {"sorted": ["key", "reverse"], "min": ["key", "default"], "max": ["key", "default"], "sum": ["start"],
+            "enumerate": ["start"], "zip": ["strict"]}
+VALUE_NAMES = "count index title find get join lower upper split strip copy add".split()
+PYTHONS_VALUES = (str, int, list, tuple, dict, set, bytes)
 
 
 def bound_names(tree):
@@ -44,6 +51,17 @@ def imports_of(tree):
 def top_names(tree):
     names = [node.name for node in tree.body if isinstance(node, (ast.FunctionDef, ast.ClassDef))]
     return names + [target.id for node in tree.body if isinstance(node, ast.Assign) for target in node.targets]
+
+
+def called_name(node):
+    """The name by which a function or a method is called, None for another node."""
+    if not isinstance(node, ast.Call):
+        return None
+    return node.func.id if isinstance(node.func, ast.Name) else node.func.attr
+
+
+def parents_of(tree):
+    return {child: node for node in ast.walk(tree) for child in ast.iter_child_nodes(node)}
 
 
 class LanguageTest(unittest.TestCase):
@@ -116,11 +134,78 @@ class LanguageTest(unittest.TestCase):
                     self.assertIn(node.id, bound + drawn + OWN_NAMES, (name, node.lineno))
             self.assertEqual(len(set(top_names(tree))), len(top_names(tree)), name)
 
+    def own_methods(self):
+        return [node.name for _, found in self.each_node(ast.ClassDef) for node in found.body
+                if isinstance(node, ast.FunctionDef)]
+
+    def own_values(self):
+        return [node.attr for _, node in self.each_node(ast.Attribute) if isinstance(node.ctx, ast.Store)]
+
     def test_methods(self):
-        own = [word for tree in self.trees.values() for word in bound_names(tree)]
-        stored = [node.attr for _, node in self.each_node(ast.Attribute) if isinstance(node.ctx, ast.Store)]
         for name, node in self.each_node(ast.Attribute):
-            self.assertIn(node.attr, METHODS + own + stored, (name, node.lineno))
+            self.assertIn(node.attr, METHODS + self.own_methods() + self.own_values(), (name, node.lineno))
+
+    def test_classes(self):
+        for name, node in self.each_node(ast.ClassDef):
+            self.assertIn(node, self.trees[name].body)
+            self.assertLessEqual(len(node.bases), 1, node.name)
+            self.assertEqual((node.keywords, node.decorator_list), ([], []), node.name)
+            for part in node.body:
+                self.assertIsInstance(part, (ast.FunctionDef, ast.Pass), node.name)
+            methods = [part.name for part in node.body if isinstance(part, ast.FunctionDef)]
+            self.assertEqual(len(set(methods)), len(methods), node.name)
+
+    def test_names_of_methods_and_values(self):
+        pythons = {word for kind in PYTHONS_VALUES for word in dir(kind)}
+        self.assertEqual(set(self.own_methods()) & set(self.own_values()), set())
+        for word in self.own_methods():
+            self.assertTrue(word == "__init__" or word not in pythons, word)
+        for word in self.own_values():
+            self.assertTrue(word in VALUE_NAMES or word not in pythons, word)
+
+    def test_what_is_walked_is_not_kept(self):
+        for name, tree in self.trees.items():
+            parents = parents_of(tree)
+            for node in ast.walk(tree):
+                if called_name(node) in WALKED:
+                    parent = parents[node]
+                    walked = isinstance(parent, (ast.For, ast.comprehension)) and parent.iter is node
+                    self.assertTrue(walked or called_name(parent) in WALKERS, (name, node.lineno))
+
+    def test_what_is_walked_is_not_changed(self):
+        for name, loop in self.each_node(ast.For):
+            walked = {ast.unparse(node) for node in ast.walk(loop.iter) if isinstance(node, (ast.Name, ast.Attribute))}
+            for statement in loop.body:
+                for node in ast.walk(statement):
+                    if called_name(node) in CHANGES and isinstance(node.func, ast.Attribute):
+                        self.assertNotIn(ast.unparse(node.func.value), walked, (name, node.lineno))
+                    if isinstance(node, ast.Subscript) and isinstance(node.ctx, ast.Store):
+                        self.assertNotIn(ast.unparse(node.value), walked, (name, node.lineno))
+
+    def test_nothing_is_kept_at_the_top(self):
+        for name, tree in self.trees.items():
+            for node in ast.walk(tree):
+                if called_name(node) in CHANGES and isinstance(node.func, ast.Attribute):
+                    self.assertNotIn(ast.unparse(node.func.value), top_names(tree), (name, node.lineno))
+                if isinstance(node, (ast.Subscript, ast.Attribute)) and isinstance(node.ctx, ast.Store):
+                    self.assertNotIn(ast.unparse(node.value), top_names(tree), (name, node.lineno))
+
+    def test_calls_is_and_raise(self):
+        for name, node in self.each_node(ast.Call, ast.Compare, ast.Raise, ast.Pow, ast.Set, ast.AnnAssign):
+            where = (name, getattr(node, "lineno", 0))
+            self.assertNotIsInstance(node, (ast.Pow, ast.Set, ast.AnnAssign), where)
+            if isinstance(node, ast.Call):
+                self.assertNotIn(called_name(node), ("set", "frozenset", "isinstance"), where)
+                self.assertLessEqual({word.arg for word in node.keywords}, set(KEYWORDS.get(called_name(node), [])), where)
+            elif isinstance(node, ast.Raise):
+                self.assertIsInstance(node.exc, ast.Call, where)
+            elif isinstance(node.ops[0], (ast.Is, ast.IsNot)):
+                self.assertIn(ast.unparse(node.comparators[0]), ("None", "True", "False"), where)
+
+    def test_no_annotations(self):
+        for name, node in self.each_node(ast.FunctionDef):
+            self.assertIsNone(node.returns, (name, node.name))
+            self.assertEqual([arg.annotation for arg in node.args.args], [None] * len(node.args.args), (name, node.name))
 
     def test_imports(self):
         draws = {}
